@@ -1,0 +1,1 @@
+"""Guardhopes: wishes on endless runs, parted into nothing bad and something good."""
