@@ -1,6 +1,10 @@
 from unittest import TestCase
 
+from guardhopes.kinds import comes_again, depth, does_stay, is_duty, is_guard, is_hope, is_promise
+from guardhopes.likeness import alike, breaking, parting, within
+from guardhopes.living import is_watchable, live, shortest, sure, verdict
 from guardhopes.machines import Machine
+from guardhopes.parts import guard, hope, opposite, recoloured
 from guardhopes.runs import lies_in, state_after
 
 
@@ -9,6 +13,7 @@ class ExamplesTest(TestCase):
 
     def setUp(self):
         self.rare = Machine.read("machine ab\nstate 1 0 1\nstate 2 0 2\nstate 1 2 2")
+        self.some = Machine("ab", ((1, (1, 0)), (0, (1, 1))))
 
     def test_machines(self):
         rare = self.rare
@@ -23,6 +28,50 @@ class ExamplesTest(TestCase):
             [state_after(rare, ""), state_after(rare, "ab"), state_after(rare, "abb"),
              lies_in(rare, ("", "ab")), lies_in(rare, ("ab", "a")), lies_in(rare, ("bb", "ab"))],
             [0, 1, 2, True, False, False])
+
+    def test_living(self):
+        rare, some = self.rare, self.some
+        self.assertEqual(
+            [live(rare), sure(rare), verdict(rare, "ab"), verdict(rare, "abba"), shortest(rare, "bad"),
+             shortest(rare, "good")],
+            [(0, 1), (), "open", "bad", "bb", None])
+        self.assertEqual(
+            [live(some), sure(some), verdict(some, "bba"), shortest(some, "good"), is_watchable(some),
+             is_watchable(rare)],
+            [(0, 1), (1,), "good", "a", True, True])
+
+    def test_parts(self):
+        rare, some = self.rare, self.some
+        self.assertEqual(
+            [guard(rare).states, hope(rare).states, guard(some).states, guard(guard(rare)) == guard(rare),
+             guard(hope(rare)).states],
+            [((0, (0, 1)), (0, (0, 2)), (1, (2, 2))), ((1, (0, 1)), (2, (0, 2)), (0, (2, 2))), ((0, (0, 0)),), True,
+             ((0, (0, 0)),)])
+        self.assertEqual(
+            [lies_in(opposite(rare), ("ab", "a")), lies_in(opposite(rare), ("", "ab"))], [True, False])
+        self.assertIs(alike(recoloured(rare), rare), True)
+
+    def test_likeness(self):
+        rare, some = self.rare, self.some
+        self.assertEqual(
+            [alike(rare, guard(rare)), within(rare, guard(rare)), within(guard(rare), rare), within(rare, hope(rare)),
+             parting(some, some), breaking(rare, some)],
+            [False, True, False, True, None, None])
+
+    def test_kinds(self):
+        rare, some = self.rare, self.some
+        self.assertEqual(
+            [is_guard(rare), is_hope(rare), is_promise(rare), is_duty(rare), comes_again(rare), does_stay(rare),
+             depth(rare)],
+            [False, False, False, False, True, False, 2])
+        self.assertEqual(
+            [is_guard(some), is_hope(some), is_promise(some), is_duty(some), comes_again(some), does_stay(some),
+             depth(some)],
+            [False, True, True, True, True, True, 1])
+        self.assertEqual(
+            [is_guard(guard(rare)), is_hope(hope(rare)), depth(guard(rare)), depth(hope(rare)),
+             depth(opposite(rare))],
+            [True, True, 1, 2, 1])
 
     def test_a_wish_of_the_document_told_by_hand(self):
         # In the end only c comes.
