@@ -55,6 +55,13 @@ def first_words(machine):
     return words_from(machine.letters, arrows_of(machine), 0, list(range(len(machine))))
 
 
+def first_word_to(letters, arrows, begin, goals):
+    """The first word, perhaps the empty one, that leads from a number on to one of the goals; None if none does."""
+    words = words_from(letters, arrows, begin, list(range(len(arrows))))
+    found = [word for number, word in words.items() if number in goals]
+    return found[0] if found else None
+
+
 def reached(machine):
     """The list of the reached states, in the order of the first words that lead to them."""
     return list(first_words(machine))
@@ -147,21 +154,29 @@ def dead(machine):
     return [k for k in range(len(machine)) if k not in living]
 
 
-def verdict(machine, word):
-    """Whether a beginning is bad, good or open for the wish."""
-    state = state_after(machine, word)
+def verdict_at(machine, state):
+    """The verdict on the beginnings that lead to a state."""
     if state in dead(machine):
         return BAD
     return GOOD if state in sure(machine) else OPEN
 
 
+def nearest_word(machine, state, wanted):
+    """A shortest word from a state to what is bad, or good, the first one in alphabetical order; None if none is."""
+    check_wanted(wanted, (BAD, GOOD))
+    goals = dead(machine) if wanted == BAD else sure(machine)
+    return first_word_to(machine.letters, arrows_of(machine), state, goals)
+
+
+def verdict(machine, word):
+    """Whether a beginning is bad, good or open for the wish."""
+    return verdict_at(machine, state_after(machine, word))
+
+
 def shortest(machine, wanted):
     """A shortest beginning that is bad, or good, the first one in alphabetical order; None if there is none."""
     check_machine(machine)
-    check_wanted(wanted, (BAD, GOOD))
-    goals = dead(machine) if wanted == BAD else sure(machine)
-    found = [word for state, word in first_words(machine).items() if state in goals]
-    return found[0] if found else None
+    return nearest_word(machine, 0, wanted)
 
 
 def is_watchable(machine):

@@ -217,3 +217,35 @@ def neighbours(machine):
 
 def one_state(letters, colour):
     return Machine(letters, ((colour, (0,) * len(letters)),))
+
+
+def pairs_of(many, seed):
+    """Pairs of machines with the same letters."""
+    by_letters = {}
+    for machine in mixed_machines(many * 2, seed):
+        by_letters.setdefault(machine.letters, []).append(machine)
+    pairs = []
+    for machines in by_letters.values():
+        pairs += zip(machines[::2], machines[1::2])
+    return pairs
+
+
+def all_pairs(one, other):
+    """The arrows and the pairs of colours of the pairs of states, numbered, of two machines that go on together."""
+    pairs = list(product(one.states, other.states))
+    arrows = [[a * len(other) + b for a, b in zip(x[1], y[1])] for x, y in pairs]
+    return arrows, [(x[0], y[0]) for x, y in pairs]
+
+
+def tops_round(one, other, inside):
+    """For each pair of states the pairs of greatest colours of the loops that it lies on, a look at all colours."""
+    arrows, colours = all_pairs(one, other)
+    found = {k: set() for k in inside}
+    for low, high in product({colours[k][0] for k in inside}, {colours[k][1] for k in inside}):
+        within = {k for k in inside if colours[k][0] <= low and colours[k][1] <= high}
+        ahead = {k: goes_to(arrows, k, within) for k in within}
+        for k in within:
+            loop = {other_k for other_k in ahead[k] if k in ahead[other_k]}
+            if any(colours[j][0] == low for j in loop) and any(colours[j][1] == high for j in loop):
+                found[k].add((low, high))
+    return found

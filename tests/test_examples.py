@@ -1,11 +1,16 @@
 from unittest import TestCase
 
+from guardhopes.errors import InvalidWord
 from guardhopes.kinds import comes_again, depth, does_stay, is_duty, is_guard, is_hope, is_promise
 from guardhopes.likeness import alike, breaking, parting, within
+from guardhopes.live import Watch
 from guardhopes.living import is_watchable, live, shortest, sure, verdict
 from guardhopes.machines import Machine
+from guardhopes.mends import holds, mends
 from guardhopes.parts import guard, hope, opposite, recoloured
 from guardhopes.runs import lies_in, state_after
+from guardhopes.seeing import fitting
+from guardhopes.steps import in_step, jam
 
 
 class ExamplesTest(TestCase):
@@ -14,6 +19,7 @@ class ExamplesTest(TestCase):
     def setUp(self):
         self.rare = Machine.read("machine ab\nstate 1 0 1\nstate 2 0 2\nstate 1 2 2")
         self.some = Machine("ab", ((1, (1, 0)), (0, (1, 1))))
+        self.calm = Machine("ab", ((0, (0, 1)), (1, (1, 1))))
 
     def test_machines(self):
         rare = self.rare
@@ -72,6 +78,36 @@ class ExamplesTest(TestCase):
             [is_guard(guard(rare)), is_hope(hope(rare)), depth(guard(rare)), depth(hope(rare)),
              depth(opposite(rare))],
             [True, True, 1, 2, 1])
+
+    def test_steps(self):
+        rare, some, calm = self.rare, self.some, self.calm
+        self.assertEqual(
+            [in_step(guard(rare), hope(rare)), jam(guard(rare), some), jam(calm, rare), jam(guard(rare), calm),
+             in_step(calm, some)],
+            [True, None, "", "b", True])
+
+    def test_seeing(self):
+        machines = (self.rare, self.some, self.calm)
+        self.assertEqual(fitting(machines, ((("", "a"), False), (("a", "ab"), True))), (0,))
+
+    def test_mends(self):
+        rare = self.rare
+        self.assertEqual(
+            [holds(rare, ("again",)), holds(rare, ("depth", 1)), holds(rare, ("bad", "bb")),
+             holds(rare, ("like", str(guard(rare))))],
+            [True, False, True, False])
+        changes = ((0, "colour", 2), (0, "colour", 0), (1, "colour", 1), (2, "colour", 0))
+        self.assertEqual(mends(rare, (("guard",),), changes), ((0,), (1,), (2,)))
+
+    def test_live(self):
+        watch = Watch(self.rare)
+        watch.hear("aba")
+        self.assertEqual(
+            [watch.heard, watch.state, watch.verdict, len(watch), watch.nearest("bad"), watch.nearest("good")],
+            ["aba", 0, "open", 3, "bb", None])
+        with self.assertRaises(InvalidWord) as raised:
+            watch.hear("abc")
+        self.assertEqual(raised.exception.given, "abc")
 
     def test_a_wish_of_the_document_told_by_hand(self):
         # In the end only c comes.

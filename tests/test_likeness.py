@@ -8,8 +8,8 @@ from guardhopes.machines import Machine
 from guardhopes.parts import guard, hope, opposite, recoloured
 from guardhopes.runs import lies_in
 from tests.loops import (
-    disguised, goes_to, ladder, lassos_of, loops_in, mixed_machines, neighbours, no_machines, one_state, renumbered,
-    words_up_to)
+    all_pairs, disguised, goes_to, ladder, lassos_of, loops_in, mixed_machines, neighbours, no_machines, one_state,
+    pairs_of, renumbered, tops_round, words_up_to)
 from tests.values import Raises, SaysEqual, numbers_from
 
 RARE = Machine.read("machine ab\nstate 1 0 1\nstate 2 0 2\nstate 1 2 2")
@@ -17,44 +17,23 @@ CALLS = (parting, alike, breaking, within)
 
 
 def reached_pairs(one, other):
-    """The pairs of states to which words lead both machines together, numbered, with their arrows and colours."""
-    arrows = [
-        [a * len(other) + b for a, b in zip(x[1], y[1])] for x, y in product(one.states, other.states)]
-    colours = [(x[0], y[0]) for x, y in product(one.states, other.states)]
-    return arrows, colours, sorted({0} | goes_to(arrows, 0, range(len(arrows))))
+    """The pairs of states to which words lead both machines together."""
+    arrows, _ = all_pairs(one, other)
+    return sorted({0} | goes_to(arrows, 0, range(len(arrows))))
 
 
 def evennesses_by_loops(one, other):
     """The pairs of evennesses that the loops of both machines together have: a look at all loops."""
-    arrows, colours, reached = reached_pairs(one, other)
+    arrows, colours = all_pairs(one, other)
     return {
-        tuple(max(colours[k][place] for k in loop) % 2 for place in (0, 1)) for loop in loops_in(arrows, reached)}
+        tuple(max(colours[k][place] for k in loop) % 2 for place in (0, 1))
+        for loop in loops_in(arrows, reached_pairs(one, other))}
 
 
 def evennesses_by_colours(one, other):
     """The same, by a look at all pairs of greatest colours."""
-    arrows, colours, reached = reached_pairs(one, other)
-    found = set()
-    for low, high in product({colours[k][0] for k in reached}, {colours[k][1] for k in reached}):
-        inside = {k for k in reached if colours[k][0] <= low and colours[k][1] <= high}
-        ahead = {k: goes_to(arrows, k, inside) for k in inside}
-        for k in inside:
-            if colours[k][0] == low:
-                for other_k in ahead[k]:
-                    if colours[other_k][1] == high and k in ahead[other_k]:
-                        found.add((low % 2, high % 2))
-    return found
-
-
-def pairs_of(many, seed):
-    """Pairs of machines with the same letters."""
-    by_letters = {}
-    for machine in mixed_machines(many * 2, seed):
-        by_letters.setdefault(machine.letters, []).append(machine)
-    pairs = []
-    for machines in by_letters.values():
-        pairs += zip(machines[::2], machines[1::2])
-    return pairs
+    tops = tops_round(one, other, reached_pairs(one, other))
+    return {(low % 2, high % 2) for found in tops.values() for low, high in found}
 
 
 class LikenessCase(TestCase):
@@ -87,7 +66,7 @@ class AllLoopsTest(LikenessCase):
     def test_as_all_loops_of_both_tell(self):
         met = {}
         for one, other in pairs_of(500, 71):
-            if len(reached_pairs(one, other)[2]) <= 8:
+            if len(reached_pairs(one, other)) <= 8:
                 told = evennesses_by_loops(one, other)
                 self.assertEqual(told, evennesses_by_colours(one, other))
                 self.assert_told(one, other, told)
