@@ -45,17 +45,21 @@ def word_round(letters, arrows, loop, stops):
     return word
 
 
-def lasso_between(one, other, evenness, beside):
-    """A lasso whose greatest colours that come again and again in the two machines are so; None if there is none."""
-    arrows = pair_arrows(one, other)
-    colours, others = pair_colours(one, other)
-    words = words_from(one.letters, arrows, 0, list(range(len(arrows))))
-    loops = loops_as_asked(arrows, list(words), [(colours, evenness), (others, beside)])
+def lasso_from(letters, arrows, begin, asked):
+    """A lasso from a number on whose greatest colours that come again are as asked; None if there is none."""
+    words = words_from(letters, arrows, begin, list(range(len(arrows))))
+    loops = loops_as_asked(arrows, list(words), asked)
     if not loops:
         return None
     loop = loops[0]
-    stops = [loop[0], top_of(colours, loop), top_of(others, loop)]
-    return words[loop[0]], word_round(one.letters, arrows, loop, stops)
+    stops = [loop[0], *[top_of(pair[0], loop) for pair in asked]]
+    return words[loop[0]], word_round(letters, arrows, loop, stops)
+
+
+def lasso_between(one, other, evenness, beside):
+    """A lasso whose greatest colours that come again and again in the two machines are so; None if there is none."""
+    colours, others = pair_colours(one, other)
+    return lasso_from(one.letters, pair_arrows(one, other), 0, [(colours, evenness), (others, beside)])
 
 
 def breaking(one, other):

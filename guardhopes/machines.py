@@ -4,6 +4,7 @@ from guardhopes.errors import InvalidChange, InvalidLetters, InvalidStates, Inva
 from guardhopes.limits import MOST_COLOUR, MOST_LETTERS, MOST_STATES
 
 COLOUR_PART = "colour"
+ALPHABET = "abcdefghijklmnopqrstuvwxyz"
 DIGITS = "0123456789"
 
 
@@ -16,7 +17,7 @@ def is_letters(value):
     """Whether a value is the letters of some machine."""
     if not isinstance(value, str) or not 1 <= len(value) <= MOST_LETTERS:
         return False
-    in_bounds = all(["a" <= letter <= "z" for letter in value])
+    in_bounds = all([letter in ALPHABET for letter in value])
     return in_bounds and all([low < high for low, high in zip(value, value[1:])])
 
 

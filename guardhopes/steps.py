@@ -2,6 +2,7 @@
 
 from guardhopes.likeness import check_pair, pair_arrows, pair_colours
 from guardhopes.living import EVEN, first_word_to, leading_to, live, loops_as_asked
+from guardhopes.runs import state_behind
 
 
 def stuck_pairs(one, other):
@@ -12,6 +13,12 @@ def stuck_pairs(one, other):
     free = leading_to(arrows, [k for loop in loops for k in loop])
     living = live(one)
     return [k for k in range(len(arrows)) if k // len(other) in living and k not in free]
+
+
+def is_jam(one, other, word):
+    """Whether a word, of any length, is a jam."""
+    pair = state_behind(one, 0, word) * len(other) + state_behind(other, 0, word)
+    return pair in stuck_pairs(one, other)
 
 
 def jam(one, other):

@@ -4,7 +4,8 @@ from itertools import product
 
 from guardhopes.machines import Machine
 from tests.loops import (
-    arrows_in, behind, depth_in, goes_to, live_in, one_state, reached_in, reached_loops, sure_in, tops_round, word_of)
+    all_pairs, arrows_in, behind, depth_in, goes_to, live_in, one_state, reached_in, reached_loops, sure_in,
+    tops_round, word_of)
 from tests.values import Raises, SaysEqual, odd_values
 
 KINDS = ("guard", "hope", "promise", "duty", "again", "stays", "watchable")
@@ -45,12 +46,20 @@ def goes_round_evenly(machine, lasso):
     return top % 2 == 0
 
 
-def alike_in(one, other):
-    """Whether no loop of both has unlike evennesses: a look at all pairs of greatest colours."""
-    tops = tops_round(one, other, range(len(one) * len(other)))
-    arrows = [[a * len(other) + b for a, b in zip(x[1], y[1])] for x, y in product(one.states, other.states)]
+def evennesses(one, other):
+    """The pairs of evennesses of the loops of both together: a look at all pairs of greatest colours."""
+    arrows, _ = all_pairs(one, other)
+    tops = tops_round(one, other, range(len(arrows)))
     reached = {0} | goes_to(arrows, 0, range(len(arrows)))
-    return all(low % 2 == high % 2 for k in reached for low, high in tops[k])
+    return {(low % 2, high % 2) for k in reached for low, high in tops[k]}
+
+
+def alike_in(one, other):
+    return not evennesses(one, other) & {(0, 1), (1, 0)}
+
+
+def within_in(one, other):
+    return (0, 1) not in evennesses(one, other)
 
 
 def verdict_in(machine, word):

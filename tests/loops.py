@@ -249,3 +249,14 @@ def tops_round(one, other, inside):
             if any(colours[j][0] == low for j in loop) and any(colours[j][1] == high for j in loop):
                 found[k].add((low, high))
     return found
+
+
+def jammed_pairs(one, other):
+    """The pairs of states to which jams lead, as a look at all pairs of greatest colours tells them."""
+    arrows, _ = all_pairs(one, other)
+    tops = tops_round(one, other, range(len(arrows)))
+    both = {k for k in tops if any(low % 2 == 0 and high % 2 == 0 for low, high in tops[k])}
+    living = live_in(one)
+    return {
+        k for k in range(len(arrows))
+        if k // len(other) in living and not both & ({k} | goes_to(arrows, k, range(len(arrows))))}

@@ -1,6 +1,11 @@
+from doctest import DocTestParser, DocTestRunner
+from pathlib import Path
 from unittest import TestCase
 
-from guardhopes.errors import InvalidWord
+from guardhopes.certificates import certify, certify_pair, certify_step
+from guardhopes.checker import accepts
+from guardhopes.console import Console
+from guardhopes.errors import Broken, InvalidText, InvalidWord
 from guardhopes.kinds import comes_again, depth, does_stay, is_duty, is_guard, is_hope, is_promise
 from guardhopes.likeness import alike, breaking, parting, within
 from guardhopes.live import Watch
@@ -10,6 +15,7 @@ from guardhopes.mends import holds, mends
 from guardhopes.parts import guard, hope, opposite, recoloured
 from guardhopes.runs import lies_in, state_after
 from guardhopes.seeing import fitting
+from guardhopes.shelves import Shelf
 from guardhopes.steps import in_step, jam
 
 
@@ -109,6 +115,43 @@ class ExamplesTest(TestCase):
             watch.hear("abc")
         self.assertEqual(raised.exception.given, "abc")
 
+    def test_shelves(self):
+        rare = self.rare
+        shelf = Shelf()
+        shelf["whole"] = rare
+        shelf["part"] = guard(rare)
+        shelf.ask(("within", "whole", "part"))
+        shelf.ask(("part", ("guard",)))
+        self.assertEqual(
+            [shelf.names, len(shelf.demands), shelf.changes, "other" in shelf], [("part", "whole"), 2, 4, False])
+        with self.assertRaises(Broken) as raised:
+            shelf.ask(("alike", "whole", "part"))
+        self.assertEqual(raised.exception.index, 2)
+
+    def test_certificates(self):
+        rare, calm = self.rare, self.calm
+        self.assertEqual(
+            [certify(rare, ("stays",))[0][0], certify(rare, ("hope",))[0][0], certify_pair(rare, rare)[0][0],
+             certify_step(calm, rare)],
+            ["notstays", "fails", "same",
+             (("jams", "machine ab\nstate 0 0 1\nstate 1 1 1", "machine ab\nstate 1 0 1\nstate 2 0 2\nstate 1 2 2"),
+              "")])
+        self.assertEqual(
+            [accepts(("notstays", str(rare)), ("", "a", "ba")), accepts(("notagain", str(rare)), ("", "a", "ba")),
+             accepts(("parted", str(rare), str(calm)), ("", "a"))],
+            [True, False, True])
+        self.assertIs(accepts(("open", str(rare), "ab"), (("ab", "ab"), ("abb", "a"))), True)
+
+    def test_console(self):
+        console = Console(self.rare)
+        self.assertEqual(
+            [console.say("hear ab"), console.say("state"), console.say("nearest bad"), console.say("hear x"),
+             console.say("kinds"), console.say("undo"), console.say("heard")],
+            ["ok", "1", "b", "InvalidWord", "again watchable", "ok", "-"])
+        with self.assertRaises(InvalidText) as raised:
+            console.say("hear")
+        self.assertEqual(raised.exception.given, "hear")
+
     def test_a_wish_of_the_document_told_by_hand(self):
         # In the end only c comes.
         ends = Machine("abc", ((1, (0, 0, 1)), (0, (0, 0, 1))))
@@ -116,3 +159,11 @@ class ExamplesTest(TestCase):
             (("", "c"), True), (("abba", "c"), True), (("", "ccca"), False), (("c" * 200, "b"), False),
         ):
             self.assertIs(lies_in(ends, lasso), truth)
+
+    def test_the_examples_of_the_readme(self):
+        text = (Path(__file__).resolve().parent.parent / "README.md").read_text()
+        rows = "\n".join("" if row.startswith("```") else row for row in text.split("\n"))
+        runner = DocTestRunner(verbose=False)
+        runner.run(DocTestParser().get_doctest(rows, {}, "README.md", "README.md", 0), out=lambda row: None)
+        self.assertGreater(runner.tries, 30)
+        self.assertEqual(runner.failures, 0)

@@ -138,7 +138,8 @@ class AlikeTest(LikenessCase):
             self.assertIs(within(other, one), True)
             # What is not reached does not tell them apart.
             cut = [(k[0], tuple(min(to, 4) for to in k[1])) for k in one.states]
-            self.assertIs(alike(Machine(letters, tuple(cut)), Machine(letters, tuple([*cut[:5], (5, cut[5][1])]))), True)
+            recut = [*cut[:5], (5, cut[5][1])]
+            self.assertIs(alike(Machine(letters, tuple(cut)), Machine(letters, tuple(recut))), True)
 
     def test_only_one_direction(self):
         for machine in mixed_machines(120, 78):

@@ -392,7 +392,8 @@ class MendsErrorsTest(Case):
         parts = ["", "c", "ab", "ba", "Colour", "colour ", "color", "A", "0", None, 0, True, b"a", ("a",), ["a"],
                  SaysEqual(), Raises()]
         wrong = [
-            *odd_values(), "", "a", "colour", 0, (), (0,), ("a",), (0, (0,)), (None, [True], {}), *((number, "a", 0) for number in numbers), *((0, part, 0) for part in parts),
+            *odd_values(), "", "a", "colour", 0, (), (0,), ("a",), (0, (0,)), (None, [True], {}),
+            *((number, "a", 0) for number in numbers), *((0, part, 0) for part in parts),
             (0, "a"), (0, "a", 0, 0), [0, "a", 0], ("a", 0, 0), (0, 0, "a"), ((0, "a", 0),), ("colour", 0, 0)]
         for value in wrong:
             for ahead in range(5):

@@ -10,8 +10,8 @@ from guardhopes.runs import lies_in
 from guardhopes.steps import in_step, jam
 from tests.cases import Case
 from tests.loops import (
-    all_pairs, behind, disguised, goes_to, ladder, lassos_of, live_in, mixed_machines, no_machines, one_state,
-    pairs_of, tops_round, words_up_to)
+    behind, disguised, jammed_pairs, ladder, lassos_of, live_in, mixed_machines, no_machines, one_state, pairs_of,
+    words_up_to)
 from tests.values import Raises, SaysEqual, numbers_from
 
 RARE = Machine.read("machine ab\nstate 1 0 1\nstate 2 0 2\nstate 1 2 2")
@@ -20,17 +20,6 @@ CALM = Machine("ab", ((0, (0, 1)), (1, (1, 1))))
 CALLS = (jam, in_step)
 # A machine that knows how far a word has gone; it takes only runs whose first letters are a, b, b, a.
 CODE = Machine("ab", ((0, (1, 5)), (0, (5, 2)), (0, (5, 3)), (0, (4, 5)), (0, (4, 4)), (1, (5, 5))))
-
-
-def jammed_pairs(one, other):
-    """The pairs of states to which jams lead, as a look at all pairs of greatest colours tells them."""
-    arrows, _ = all_pairs(one, other)
-    tops = tops_round(one, other, range(len(arrows)))
-    both = {k for k in tops if any(low % 2 == 0 and high % 2 == 0 for low, high in tops[k])}
-    living = live_in(one)
-    return {
-        k for k in range(len(arrows))
-        if k // len(other) in living and not both & ({k} | goes_to(arrows, k, range(len(arrows))))}
 
 
 def first_jam(one, other):
